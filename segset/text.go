@@ -45,3 +45,8 @@ func rising(lists ...[]string) []string {
 	slices.Sort(l)
 	return slices.Compact(l)
 }
+
+// longer is the well-formed texts of two code points at least, each once, in order.
+func longer(l []string) []string {
+	return slices.DeleteFunc(rising(l), func(text string) bool { return len(points(text)) < 2 })
+}
