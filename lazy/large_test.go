@@ -58,3 +58,15 @@ func TestManyTexts(t *testing.T) {
 		}
 	}
 }
+
+// A step that was gone once isn't worked out again, or states would be of no use: that
+// would take many allocations here, as many as there are sets to be asked.
+func TestStepsAreRemembered(t *testing.T) {
+	m, _ := New(of(t, "(a|b|c|d|[ef]|[gh])*((a?){64}){10}"), api.MaxCache)
+	row := slices.Repeat([]string{"a", "b", "e", "h", "a"}, 20)
+	q := ask{window: row, begin: true}
+	answered(m, q)
+	if n := testing.AllocsPerRun(3, func() { answered(m, q) }); n > float64(4*len(row)) {
+		t.Error(n, "allocations for", len(row), "texts")
+	}
+}

@@ -55,32 +55,31 @@ func TestLeftAsItIs(t *testing.T) {
 	if _, was := roomy(); !alike([]api.Instr{goes(all)}, []api.Instr{goes(was)}) {
 		t.Error("a set was changed", all)
 	}
+	if x := p[1].Set; &x.Single[0] != &s.Single[0] || &x.Multi[0] != &s.Multi[0] || &x.Odd[0] != &s.Odd[0] {
+		t.Error("a program has other lists than it was handed in with")
+	}
 }
 
 // R3: a machine keeps copies: its program is no matter to it behind New, and neither is a
 // window behind the call.
 func TestNothingIsKept(t *testing.T) {
-	s, all := roomy()
-	p := []api.Instr{split(1, 3), goes(s), jump(0), match}
-	was := copyOf(p)
+	s, _ := roomy()
+	was := []api.Instr{split(1, 3), goes(s), jump(0), match}
 	window := []string{"a", "a\u0301", "b\u0301", "d", "c\u0301", "a", "x"}
 	for _, room := range []int{2, api.MaxCache} {
 		for _, asked := range []bool{false, true} { // states are made ahead of the change, or behind it
-			p = copyOf(was)
-			copy(p[1].Set.Single, all.Single)
+			p := copyOf(was)
+			lists := p[1].Set
 			m, _ := New(p, room)
 			if asked {
 				answered(m, ask{window: window})
 			}
+			for k := range lists.Single {
+				lists.Single[k] = api.Range{Lo: 'x', Hi: 'z'}
+			}
+			clear(lists.Multi)
+			clear(lists.Odd)
 			for i := range p {
-				x := p[i].Set
-				for k := range x.Single {
-					x.Single[k] = api.Range{Lo: 'x', Hi: 'z'}
-				}
-				for k := range x.Multi {
-					x.Multi[k] = api.Range{}
-				}
-				clear(x.Odd)
 				p[i] = match
 			}
 			for _, q := range questions(window) {

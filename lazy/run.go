@@ -1,5 +1,7 @@
 package lazy
 
+import "trema/api"
+
 // run goes over a window, text by text.
 type run struct {
 	machine      *Machine
@@ -50,4 +52,6 @@ func (r *run) step() bool {
 }
 
 // isOpen says whether a run that has gone as far as it can is open.
-func (r *run) isOpen() bool { return !r.final && r.now != nil && r.now.waits }
+func (r *run) isOpen() bool {
+	return !r.final && r.now != nil && r.machine.holds(r.now.reached, api.OpSet, api.OpEnd)
+}

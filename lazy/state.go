@@ -15,8 +15,6 @@ const slots = 32
 type state struct {
 	reached set
 	matches bool
-	waits   bool // for more texts, or for the end
-	ends    bool // waits for the end
 	steps   [slots]step
 }
 
@@ -34,19 +32,10 @@ func (m *Machine) state(reached set) *state {
 	}
 	s, is := m.states[reached]
 	if !is {
-		s = m.newState(reached)
+		s = &state{reached: reached, matches: m.holds(reached, api.OpMatch)}
 		m.keep(s)
 	}
 	return s
-}
-
-func (m *Machine) newState(reached set) *state {
-	return &state{
-		reached: reached,
-		matches: m.holds(reached, api.OpMatch),
-		waits:   m.holds(reached, api.OpSet, api.OpEnd),
-		ends:    m.holds(reached, api.OpEnd),
-	}
 }
 
 // keep keeps a state, and lets go of all others first if there is no room for it.
@@ -124,7 +113,7 @@ func (m *Machine) goOn(l []int, at int, begin, end bool) []int {
 // matchesAtEnd says whether there is a match where a state is at the text's end, and,
 // with begin, at its beginning too.
 func (m *Machine) matchesAtEnd(s *state, begin bool) bool {
-	return s.matches || s.ends && m.holds(m.reach(slices.Collect(s.reached.all), begin, true), api.OpMatch)
+	return m.holds(m.reach(slices.Collect(s.reached.all), begin, true), api.OpMatch)
 }
 
 // copied is a program that shares no lists.
