@@ -132,7 +132,7 @@ func TestRolled(t *testing.T) {
 				}
 			}
 			w := watch(t, x.pattern(&d), c)
-			ended[w.feed(d.cuts(b)...)]++
+			ended[w.feed(pick(&d, d.cuts(b), d.cuts(b), bytewise(b), [][]byte{b})...)]++
 			if len(w.told) > 1 {
 				found++
 			}

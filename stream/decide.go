@@ -22,9 +22,9 @@ func (s *Stream) over() api.Errno {
 }
 
 // take lets segments come, and behind them the segmenter's error, if it answered one. As
-// many come at once as may be undecided: a run that isn't open goes on alike whatever
-// stands behind, so that deciding behind each single one would tell nothing else, but
-// would go over a long window again for each.
+// many come at once as may be undecided: whatever stands behind a run that isn't open, the
+// same is answered of it, so that to decide behind each single segment would tell nothing
+// else, but would go over a long window anew each time.
 func (s *Stream) take(l []api.Segment, e api.Errno) api.Errno {
 	for len(l) > 0 {
 		n := min(len(l), s.most-s.Held())

@@ -128,9 +128,9 @@ func TestConfigs(t *testing.T) {
 			t.Error(c, e)
 		}
 	}
-	mayNot := []Config{{}, {0, 1, 0}, {65, 1, 0}, {1, 0, 0}, {1, 4097, 0}, {1, 1, 1}, {1, 1, 4097}, {1, 1, -1}, {1, 1, -2}, {-1, 1, 0}, {1, -1, 0}, {0, 0, 1}, {64, 4096, 1}, {8, 8, -4096}}
+	mayNot := []Config{{}, {0, 1, 0}, {65, 1, 0}, {1, 0, 0}, {1, 4097, 0}, {1, 1, 1}, {1, 1, 4097}, {1, 1, -1}, {1, 1, -2}, {-1, 1, 0}, {1, -1, 0}, {0, 0, 0}, {0, 0, 2}, {0, 0, 1}, {8, 0, 1}, {8, 4097, 4097}, {0, 8, 1}, {64, 4096, 1}, {8, 8, -4096}}
 	for _, n := range []int{math.MinInt, math.MinInt32, -4096, -64, 1 << 16, 1<<16 + 1, 1<<32 + 2, 1 << 32, math.MaxInt32, math.MaxInt} {
-		mayNot = append(mayNot, Config{n, 2, 2}, Config{2, n, 2}, Config{2, 2, n}, Config{n, n, n})
+		mayNot = append(mayNot, Config{n, 2, 2}, Config{2, n, 2}, Config{2, 2, n}, Config{2, n, n}, Config{n, 2, n}, Config{n, n, 2}, Config{n, n, n})
 	}
 	for _, c := range mayNot {
 		for _, pattern := range []string{"a", "", "(a", strings.Repeat("a", api.MaxPattern+1), "(a{64}){64}"} { // ahead of a pattern's refusal

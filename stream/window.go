@@ -7,7 +7,8 @@ import (
 )
 
 // window is the segments from the base, from which a match is looked for, up to known,
-// how many have come. Behind an empty match the base may be one above known.
+// how many have come. Where a place is decided without a segment, the base goes one above
+// known.
 type window struct {
 	base, known int
 	texts       []string
